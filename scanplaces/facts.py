@@ -11,13 +11,6 @@ def is_look(fact):
     return len(fact) == 5
 
 
-def scanned_item(fact):
-    """The item of a scan; 0, which is no item, of a look."""
-    if is_look(fact):
-        return 0
-    return fact[4]
-
-
 def clashing(facts):
     """Each (device, number) that stands for more than one of these unlike facts, rising."""
     how_many = {}

@@ -5,7 +5,7 @@ A refusal is a list of one number below 0.
 """
 
 from scanplaces.clocks import looks_by_clock, put_right
-from scanplaces.facts import clashing, is_look, scanned_item
+from scanplaces.facts import clashing, is_look
 from scanplaces.histories import histories
 from scanplaces.knowledge import Knowledge
 from scanplaces.ranges import all_in_range
@@ -86,7 +86,7 @@ def answer_export(knowledge, values):
     place, item, form = values
     facts = knowledge.facts_at(place)
     if item != 0:
-        facts = [fact for fact in facts if is_look(fact) or scanned_item(fact) == item]
+        facts = [fact for fact in facts if is_look(fact) or fact[4] == item]
     return counted_row(len(facts), text_of(facts, form))
 
 
