@@ -14,6 +14,7 @@ RANGES = {
     "signature": (0, 999999),
     "first facts": (0, 100),
     "form": (0, 1),
+    "byte": (0, 255),
 }
 
 

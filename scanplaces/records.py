@@ -1,4 +1,4 @@
-"""The two record forms, in which facts are written as texts."""
+"""Facts written as texts, in the two record forms."""
 
 from scanplaces.facts import is_look
 

@@ -7,6 +7,12 @@ RETURN = 7
 ATTEMPT = 4
 SIGNED_STATES = (6, 9)
 
+# Those in which an item lies at the office where it stands.
+LYING_STATES = (1, 4, 7)
+
+# Good signatures of one scan are this far from one another.
+SIGNATURE_STEP = 97
+
 # For each kind of scan: the states in which it fits.
 FITTING_STATES = ((0,), (0, 2), (1,), (1, 4), (3,), (1, 3), (1, 3, 4), (1, 4), (1,), (7,))
 
@@ -16,7 +22,19 @@ STATES_BEHIND = (1, 1, 2, 3, 3, 4, 5, 8, 7, 1)
 
 def is_good(signature, item, device, number):
     """Whether the signature is good for a scan of this item by this device with this number."""
-    return signature != 0 and signature % 97 == (item + 3 * device + 5 * number) % 97
+    return signature != 0 and signature % SIGNATURE_STEP == remainder_due(item, device, number)
+
+
+def least_good(item, device, number):
+    """The least signature that is good for a scan of this item by this device with this number."""
+    remainder = remainder_due(item, device, number)
+    # 0 stands for no signature, and so it is never good.
+    return remainder if remainder != 0 else SIGNATURE_STEP
+
+
+def remainder_due(item, device, number):
+    """What a good signature leaves, divided by the step."""
+    return (item + 3 * device + 5 * number) % SIGNATURE_STEP
 
 
 class Standing:
@@ -57,6 +75,10 @@ class Standing:
         # Where an item is posted, and to which office it comes, is free.
         return kind < 2 or office == self.office
 
+    def lies_at(self, office):
+        """Whether the item lies at this office."""
+        return self.office == office and self.state in LYING_STATES
+
     def whole(self):
         """All in which two standings of one item may differ, as one tuple."""
         return (self.state, self.office, self.attempts, self.odd_places, self.signer)
@@ -70,14 +92,26 @@ def standing_behind(item, history):
     return standing
 
 
-def standing_otherwise(facts, fewer_facts):
-    """The items scanned among the facts that stand otherwise by the fewer facts, rising."""
+def standings(facts):
+    """For each item scanned among the facts: how it stands."""
     found = histories(facts)
-    found_before = histories(fewer_facts)
+    by_item = {}
+    for item in found:
+        by_item[item] = standing_behind(item, found[item])
+    return by_item
+
+
+def standing_otherwise(facts, other_facts):
+    """The items scanned among the facts that stand otherwise by the other facts, rising."""
+    here = standings(facts)
+    there = standings(other_facts)
     items = []
-    for item in sorted(found):
-        now = standing_behind(item, found[item])
-        before = standing_behind(item, found_before.get(item, []))
-        if now.whole() != before.whole():
+    for item in sorted(here):
+        if here[item].whole() != there.get(item, Standing(item)).whole():
             items.append(item)
     return items
+
+
+def all_alike(facts, other_facts):
+    """Whether each item stands alike by the facts and by the other facts."""
+    return not standing_otherwise(facts, other_facts) and not standing_otherwise(other_facts, facts)

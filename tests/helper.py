@@ -5,6 +5,23 @@ from scanplaces.places import answers
 FAR = 10 ** 18
 KINDS = ("PST", "ARR", "LFT", "OUT", "ATT", "HLD", "DLV", "RET", "CIN", "COT")
 
+HERE = 2
+DEVICE = 4
+
+# For each state: the kinds of a way to it, all at one office, none odd; and the attempts on it.
+WAYS = {
+    0: ((), 0),
+    1: ((0,), 0),
+    2: ((0, 2), 0),
+    3: ((0, 3), 0),
+    4: ((0, 3, 4, 5), 1),
+    5: ((0, 6), 0),
+    6: ((0, 6), 0),
+    7: ((0, 8), 0),
+    8: ((0, 7), 0),
+    9: ((0, 7), 0),
+}
+
 
 def clear():
     return [0]
@@ -46,6 +63,49 @@ def export(form=0, i=0, p=0):
     return [9, p, i, form]
 
 
+def bytes_of(text):
+    """The numbers of a text; a list of numbers stays as it is."""
+    return list(text.encode("latin-1")) if isinstance(text, str) else list(text)
+
+
+def import_text(text, form=0, p=0):
+    numbers = bytes_of(text)
+    return [10, p, form, len(numbers)] + numbers
+
+
+def convert(text, form=0):
+    numbers = bytes_of(text)
+    return [11, form, len(numbers)] + numbers
+
+
+def same(a=0, b=1):
+    return [12, a, b]
+
+
+def signed(p=0, i=7):
+    return [13, p, i]
+
+
+def missing(p=0, d=1):
+    return [14, p, d]
+
+
+def at(office=0, p=0):
+    return [15, p, office]
+
+
+def sign(i=7, d=1, number=1):
+    return [16, i, d, number]
+
+
+def differ(a=0, b=1):
+    return [17, a, b]
+
+
+def counts(p=0):
+    return [18, p]
+
+
 def good(i, d, number, more=0):
     """A good signature: the least one, or one of the greater ones."""
     return ((i + 3 * d + 5 * number) % 97 or 97) + 97 * more
@@ -85,7 +145,7 @@ def scans_of(*calls):
 
 
 def text_of(*calls):
-    """The count and the text that an export, the last of these calls, tells."""
+    """The count and the text that an export or a convert, the last of these calls, tells."""
     answer = last(*calls)
     if answer[1] != len(answer) - 2:
         raise AssertionError(f"a wrong length ahead of the text: {answer}")
@@ -100,3 +160,14 @@ def all_texts(*calls):
 def many(how_many, p=0, d=1, first=1, i=7):
     """So many calls that each tell an unlike scan."""
     return [scan(i=i, p=p, d=d, number=first + k) for k in range(how_many)]
+
+
+def way_to(wanted, i=7, office=HERE):
+    """Scans of an item behind which it stands in this state, at this office."""
+    calls = []
+    for k, kind in enumerate(WAYS[wanted][0]):
+        signs = wanted in (6, 9) and kind in (6, 7)
+        signature = good(i, DEVICE, k + 1) if signs else 0
+        told = scan(i=i, kind=kind, office=office, signature=signature, d=DEVICE, number=k + 1, clock=k)
+        calls.append(told)
+    return calls

@@ -144,6 +144,45 @@ class Trees(unittest.TestCase):
             if isinstance(node.func, ast.Attribute):
                 self.assertIn(node.func.attr, METHODS + sorted(own), name)
 
+    def test_lists_dicts_and_tuples_of_the_top_are_handed_on_as_copies_alone(self):
+        kept = set()
+        for name, tree in trees():
+            for node in tree.body:
+                if isinstance(node, ast.Assign) and isinstance(node.value, (ast.Tuple, ast.List, ast.Dict)):
+                    kept.add(node.targets[0].id)
+        self.assertIn("KIND_LETTERS", kept)
+        for name, node in nodes((ast.Call, ast.Return)):
+            if isinstance(node, ast.Return):
+                handed_on = [node.value]
+            elif isinstance(node.func, ast.Name) and node.func.id in ("len", "list", "tuple", "dict", "enumerate"):
+                handed_on = []
+            else:
+                handed_on = node.args
+            found = [value.id for value in handed_on if isinstance(value, ast.Name) and value.id in kept]
+            self.assertEqual(found, [], name)
+
+    def test_sets_are_not_kept(self):
+        allowed = set()
+        for name, node in nodes((ast.Compare, ast.Call)):
+            if isinstance(node, ast.Compare):
+                inner = [node.left] + node.comparators
+            elif isinstance(node.func, ast.Name) and node.func.id in ("len", "sorted"):
+                inner = node.args
+            else:
+                continue
+            for value in inner:
+                allowed.update((name, part.lineno, part.col_offset) for part in self.set_parts(value))
+        for name, node in nodes(ast.Call):
+            if isinstance(node.func, ast.Name) and node.func.id in ("set", "frozenset"):
+                self.assertIn((name, node.lineno, node.col_offset), allowed)
+        self.assertEqual([name for name, node in nodes(ast.Set)], [])
+
+    def set_parts(self, value):
+        """The value, or what stands on both sides of its signs."""
+        if isinstance(value, ast.BinOp):
+            return self.set_parts(value.left) + self.set_parts(value.right)
+        return [value]
+
     def test_parameters_are_plain(self):
         for name, node in nodes((ast.FunctionDef, ast.Lambda)):
             arguments = node.args

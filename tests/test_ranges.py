@@ -3,7 +3,8 @@
 import unittest
 
 from tests.helper import FAR, all_texts, ask, last, look, scan, send, text_of
-from tests.helper import clashes, clear, export, history, since, state, time
+from tests.helper import at, clashes, clear, convert, counts, differ, export, history, import_text
+from tests.helper import missing, same, sign, signed, since, state, time
 
 PLACE = (0, 2)
 DEVICE = (0, 7)
@@ -11,6 +12,7 @@ NUMBER = (1, 9999)
 SETTING = (0, 9)
 CLOCK = (0, 99999)
 ITEM = (1, 99)
+TEXT = "D1 N0002 E0 T00000 = T00000"
 
 # A call that isn't refused, and the ranges of its numbers.
 RANGES = {
@@ -26,7 +28,19 @@ RANGES = {
     "clashes": (clashes(), (PLACE,)),
     "since": (since(1), (PLACE, (0, 100))),
     "export": (export(), (PLACE, (0, 99), (0, 1))),
+    "import_text": (import_text(TEXT), (PLACE, (0, 1))),
+    "convert": (convert(TEXT), ((0, 1),)),
+    "same": (same(), (PLACE, PLACE)),
+    "signed": (signed(), (PLACE, ITEM)),
+    "missing": (missing(), (PLACE, DEVICE)),
+    "at": (at(), (PLACE, (0, 5))),
+    "sign": (sign(), (ITEM, DEVICE, NUMBER)),
+    "differ": (differ(), (PLACE, PLACE)),
+    "counts": (counts(), (PLACE,)),
 }
+
+# The calls that have a text behind their numbers.
+WITH_TEXT = ("import_text", "convert")
 
 # Something to lose, at each of the places.
 KNOWN = (
@@ -44,8 +58,10 @@ def with_number(call, index, value):
 
 class Ranges(unittest.TestCase):
     def test_each_call_has_as_many_ranges_as_numbers(self):
+        self.assertEqual([call[0] for call, ranges in RANGES.values()], list(range(1, 19)))
         for name, (call, ranges) in RANGES.items():
-            self.assertEqual(len(call), 1 + len(ranges), name)
+            text = 1 + len(TEXT) if name in WITH_TEXT else 0
+            self.assertEqual(len(call), 1 + len(ranges) + text, name)
 
     def test_both_ends_are_in_the_range(self):
         for name, (call, ranges) in RANGES.items():
@@ -80,7 +96,7 @@ class Ranges(unittest.TestCase):
         for name, (call, ranges) in RANGES.items():
             for value in (-1, 10 ** 6, -FAR, FAR):
                 with self.subTest(call=name, value=value):
-                    refused = call[:1] + [value] * len(ranges)
+                    refused = call[:1] + [value] * len(ranges) + call[1 + len(ranges):]
                     self.assertEqual(last(*KNOWN, refused), [-1])
                     self.assertEqual(all_texts(*KNOWN, refused), before)
 

@@ -2,41 +2,15 @@
 
 import unittest
 
-from tests.helper import good, history, last, look, scan, scans_of, since, state
+from tests.helper import DEVICE, HERE, WAYS, good, history, last, look
+from tests.helper import scan, scans_of, since, state, way_to
 
-HERE = 2
 AWAY = 3
-DEVICE = 4
-
-# For each state: the kinds of a way to it, all at one office, none odd; and the attempts on it.
-WAYS = {
-    0: ((), 0),
-    1: ((0,), 0),
-    2: ((0, 2), 0),
-    3: ((0, 3), 0),
-    4: ((0, 3, 4, 5), 1),
-    5: ((0, 6), 0),
-    6: ((0, 6), 0),
-    7: ((0, 8), 0),
-    8: ((0, 7), 0),
-    9: ((0, 7), 0),
-}
 FITTING = {0: (0, 1), 1: (2, 3, 5, 6, 7, 8), 2: (1,), 3: (4, 5, 6), 4: (3, 6, 7), 5: (), 7: (9,), 8: ()}
 BEHIND = {0: 1, 1: 1, 2: 2, 3: 3, 4: 3, 5: 4, 6: 5, 7: 8, 8: 7, 9: 1}
 BEHIND_SIGNED = dict(BEHIND)
 BEHIND_SIGNED[6] = 6
 BEHIND_SIGNED[7] = 9
-
-
-def way_to(wanted):
-    """Scans of item 7 behind which it stands in this state, at HERE."""
-    kinds = WAYS[wanted][0]
-    calls = []
-    for k, kind in enumerate(kinds):
-        signs = wanted in (6, 9) and kind in (6, 7)
-        signature = good(7, DEVICE, k + 1) if signs else 0
-        calls.append(scan(kind=kind, office=HERE, signature=signature, d=DEVICE, number=k + 1, clock=k))
-    return calls
 
 
 class Ways(unittest.TestCase):
